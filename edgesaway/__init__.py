@@ -1,0 +1,1 @@
+"""Edgesaway: a graph store whose answers know how many changes they are away from being otherwise."""
