@@ -1,6 +1,7 @@
-"""The tokens of a text, and what kinds of tokens there are."""
+"""The tokens of a text, and which of them are numbers."""
 
-DIGITS = "0123456789"
+from edgesaway.schemas import DIGITS
+
 RUN_SIGNS = "abcdefghijklmnopqrstuvwxyzABCDEFGHIJKLMNOPQRSTUVWXYZ0123456789"
 GAPS = " \n"
 LONGEST_NUMBER = 4

@@ -1,0 +1,63 @@
+"""Questions, their ways and their rows."""
+
+from edgesaway.books import check_once, check_size, labels_of
+from edgesaway.errors import TooLarge
+from edgesaway.schemas import kind_of, nodes_of
+
+MOST_WAYS = 8
+
+
+def ways_of(question):
+    """The tuple of the ways of a question, from left to right."""
+    ways = []
+    waiting = [question[2]]
+    while waiting:
+        body = waiting.pop()
+        if body[0] == "way":
+            ways.append(body)
+        elif body[0] == "not":
+            waiting.append(body[1])
+        else:
+            waiting.extend(body[1][::-1])
+    return tuple(ways)
+
+
+def check_question(schema, question):
+    """Raise the first error of a question that is due."""
+    ways = ways_of(question)
+    if len(ways) > MOST_WAYS:
+        raise TooLarge("question")
+    for way in ways:
+        check_size(way[1])
+    check_once(schema, [label for way in ways for label in labels_of(way[1])])
+
+
+def rows_of(schema, question):
+    """All rows of a question, in order."""
+    unknowns = question[1]
+    if not unknowns:
+        yield ()
+        return
+    if len(unknowns) == 1:
+        for node in nodes_of(schema, unknowns[0]):
+            yield (node,)
+        return
+    for node in nodes_of(schema, unknowns[0]):
+        for other in nodes_of(schema, unknowns[1]):
+            yield (node, other)
+
+
+def is_row(schema, question, row):
+    """Whether a tuple of integers is a row of a question."""
+    return tuple([kind_of(schema, node) for node in row]) == question[1]
+
+
+def end_node(end, row):
+    """The node that a row makes of an end."""
+    word, number = end
+    return row[number] if word == "unknown" else number
+
+
+def row_ends(question, row):
+    """For each way of a question the pair of nodes that a row makes of its ends."""
+    return tuple([(end_node(way[2], row), end_node(way[3], row)) for way in ways_of(question)])
