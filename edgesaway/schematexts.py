@@ -11,9 +11,9 @@ def read_schema(text):
     kinds = lines_read(reader, "kind")
     lines = lines_read(reader, "label")
     reader.finish()
-    for _, _, _, _, price in lines:
-        if price == 0:
-            raise BadNumber(price)
+    # A firm label is written with its word; its price is None here and is not looked at.
+    if any([line[4] == 0 for line in lines]):
+        raise BadNumber(0)
     schema = ("schema", kinds, tuple([label_of(kinds, line) for line in lines]))
     check_schema(schema)
     return schema
