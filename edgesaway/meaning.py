@@ -77,3 +77,9 @@ def joined(schema, graph, book, x, y):
     if stays(book, x, y):
         return True
     return any([is_last(book, y, state) for state in states_reached(graph, book, x)])
+
+
+def ends_behind(book, x, states):
+    """The ascending tuple of the nodes to which a book joins x, by the states that its search from x reaches."""
+    ends = [node for node, label in states if label in book[5]]
+    return tuple(sorted(set([*ends, x] if book[1] == 1 else ends)))

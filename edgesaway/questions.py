@@ -7,19 +7,44 @@ from edgesaway.schemas import kind_of, nodes_of
 MOST_WAYS = 8
 
 
-def ways_of(question):
-    """The tuple of the ways of a question, from left to right."""
-    ways = []
+def parts_of_body(body):
+    """The tuple of the bodies that stand right within a body."""
+    if body[0] == "way":
+        return ()
+    return body[1:] if body[0] == "not" else body[1]
+
+
+def inner_bodies(question):
+    """All bodies of a question from left to right, each behind its own parts."""
+    found = []
     waiting = [question[2]]
     while waiting:
         body = waiting.pop()
+        found.append(body)
+        waiting.extend(parts_of_body(body))
+    found.reverse()
+    return found
+
+
+def folded(question, leaves, combine):
+    """What becomes of things for the ways of a question, when they are combined body by body.
+
+    combine is a function of the word of a body and the list of what became of its parts.
+    """
+    waiting = list(leaves[::-1])
+    found = []
+    for body in inner_bodies(question):
         if body[0] == "way":
-            ways.append(body)
-        elif body[0] == "not":
-            waiting.append(body[1])
+            found.append(waiting.pop())
         else:
-            waiting.extend(body[1][::-1])
-    return tuple(ways)
+            at = len(found) - len(parts_of_body(body))
+            found[at:] = [combine(body[0], found[at:])]
+    return found[0]
+
+
+def ways_of(question):
+    """The tuple of the ways of a question, from left to right."""
+    return tuple([body for body in inner_bodies(question) if body[0] == "way"])
 
 
 def check_question(schema, question):

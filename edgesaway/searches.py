@@ -1,6 +1,6 @@
 """Searches: what a book comes to from one node of a graph."""
 
-from edgesaway.meaning import leads_of, letter_ends, states_reached
+from edgesaway.meaning import ends_behind, leads_of, letter_ends, states_reached
 from edgesaway.schemas import kind_of
 from edgesaway.sides import opened
 
@@ -15,8 +15,7 @@ class Search:
         gates = opened(book, x, self._states)
         self._gates = tuple([(node, label) for node, label in gates if kind_of(schema, node) == kinds[label]])
         self._touched = tuple(sorted([edge for gate in self._gates for edge, _ in leads.get(gate, [])]))
-        ends = [node for node, label in self._states if label in book[5]]
-        self._ends = tuple(sorted(set([*ends, x] if book[1] == 1 else ends)))
+        self._ends = ends_behind(book, x, self._states)
 
     @property
     def states(self):

@@ -28,7 +28,8 @@ def is_closed(schema, graph, book, x, side):
     if not is_side(schema, book, side):
         return False
     leads = leads_of(graph, book)
-    return all([state in side for gate in opened(book, x, side) for _, state in leads.get(gate, [])])
+    inside = set(side)
+    return all([state in inside for gate in opened(book, x, side) for _, state in leads.get(gate, [])])
 
 
 def bars(schema, graph, book, x, y, side):

@@ -220,10 +220,15 @@ class Language(unittest.TestCase):
             part.name for _, node in self.nodes(ast.ClassDef) for part in node.body if isinstance(part, ast.FunctionDef)
         }
         defined = {node.name for _, node in self.nodes(ast.FunctionDef, ast.ClassDef)}
+        passed = {
+            node.func for _, function in self.nodes(ast.FunctionDef) for node in ast.walk(function)
+            if isinstance(node, ast.Call) and isinstance(node.func, ast.Name)
+            and node.func.id in [part.arg for part in function.args.args]
+        }
         for at, node in self.nodes(ast.Call):
             if isinstance(node.func, ast.Attribute):
                 self.assertIn(node.func.attr, METHODS | own_methods, at)
-            else:
+            elif node.func not in passed:
                 self.assertIsInstance(node.func, ast.Name, at)
                 self.assertIn(node.func.id, BUILTINS | defined | {name for row in LIBRARY.values() for name in row}, at)
         for at, node in self.nodes(ast.Raise):
