@@ -11,22 +11,25 @@ def parts_of(expression):
     return expression[1:] if expression[0] != "step" else ()
 
 
-def inner_first(expression):
-    """All parts of an expression from left to right, each behind its own parts, itself as the last one."""
+def inner_first(tree, parts):
+    """All parts of a tree from left to right, each behind its own parts, the tree itself as the last one.
+
+    parts is a function that tells the tuple of what stands right within a tree.
+    """
     # A list of what waits, not a call within a call: long rows of "|" nest deeper than calls may.
     found = []
-    waiting = [expression]
+    waiting = [tree]
     while waiting:
         part = waiting.pop()
         found.append(part)
-        waiting.extend(parts_of(part))
+        waiting.extend(parts(part))
     found.reverse()
     return found
 
 
 def labels_of(expression):
     """The tuple of the labels of an expression, from left to right."""
-    return tuple([part[1] for part in inner_first(expression) if part[0] == "step"])
+    return tuple([part[1] for part in inner_first(expression, parts_of) if part[0] == "step"])
 
 
 def check_size(expression):
@@ -54,7 +57,7 @@ def book_of(schema, expression):
     """The book of an expression."""
     check_expression(schema, expression)
     books = []
-    for part in inner_first(expression):
+    for part in inner_first(expression, parts_of):
         if part[0] == "stay":
             books.append(("book", 1, (), (), (), ()))
         elif part[0] == "step":

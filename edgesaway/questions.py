@@ -1,6 +1,6 @@
 """Questions, their ways and their rows."""
 
-from edgesaway.books import check_once, check_size, labels_of
+from edgesaway.books import check_once, check_size, inner_first, labels_of
 from edgesaway.errors import TooLarge
 from edgesaway.schemas import kind_of, nodes_of
 
@@ -16,14 +16,7 @@ def parts_of_body(body):
 
 def inner_bodies(question):
     """All bodies of a question from left to right, each behind its own parts."""
-    found = []
-    waiting = [question[2]]
-    while waiting:
-        body = waiting.pop()
-        found.append(body)
-        waiting.extend(parts_of_body(body))
-    found.reverse()
-    return found
+    return inner_first(question[2], parts_of_body)
 
 
 def folded(question, leaves, combine):

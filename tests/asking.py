@@ -3,7 +3,7 @@
 import itertools
 
 from edgesaway.balls import ball
-from tests.support import kind_at, nodes_at, pairs_of, some_expression
+from tests.support import kind_at, nodes_at, pairs_of, some_expression, words_told
 
 # Two kinds of few nodes and cheap labels, so that balls are small. One of the labels is firm, two are single.
 SMALL = ("schema", (("n", 2), ("m", 1)), (
@@ -34,13 +34,50 @@ def some_end(schema, chance, unknowns):
     return node(chance.randrange(sum(many for _, many in schema[1])))
 
 
+def backs_of(expression):
+    if expression[0] == "step":
+        return {expression[1]: expression[2]}
+    return {label: back for part in expression[1:] for label, back in backs_of(part).items()}
+
+
+def kinds_behind(schema, expression, start):
+    """The kinds to which words of an expression lead from a kind, all words up to 6 labels tried."""
+    backs = backs_of(expression)
+    found = set()
+    for word in words_told(expression, 6):
+        kind = start
+        for label in word:
+            ends = schema[2][label][1:3]
+            begin, end = ends[::-1] if backs[label] else ends
+            kind = end if kind == begin else None
+        found.add(kind)
+    return found - {None}
+
+
+def kind_of_end(schema, unknowns, end):
+    return unknowns[end[1]] if end[0] == "unknown" else kind_at(schema, end[1])
+
+
+def some_way(schema, chance, labels, unknowns):
+    """A way with some of the labels; mostly one that some word can join."""
+    for _ in range(8):
+        few = chance.sample(labels, min(len(labels), chance.randrange(1, 4)))
+        left = list(few)
+        begin, end = some_end(schema, chance, unknowns), some_end(schema, chance, unknowns)
+        expression = some_expression(schema, chance, left, 3)
+        kinds = kinds_behind(schema, expression, kind_of_end(schema, unknowns, begin))
+        if kind_of_end(schema, unknowns, end) in kinds and expression != ("stay",):
+            break
+    for label in few:
+        labels.remove(label)
+    return way(expression, begin, end)
+
+
 def some_body(schema, chance, labels, unknowns, depth):
     """A body with some of the labels, each once at most; labels is a list that is used up."""
     word = chance.choice(("way", "way", "not", "and", "or", "and", "or")) if depth else "way"
     if word == "way" or not labels:
-        few = [labels.pop(chance.randrange(len(labels))) for _ in range(min(len(labels), chance.randrange(1, 4)))]
-        ends = [some_end(schema, chance, unknowns) for _ in range(2)]
-        return way(some_expression(schema, chance, few, 3), *ends)
+        return some_way(schema, chance, labels, unknowns)
     if word == "not":
         return word, some_body(schema, chance, labels, unknowns, depth - 1)
     many = chance.randrange(1, 4)
