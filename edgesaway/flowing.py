@@ -39,7 +39,8 @@ def room_of(schema, graph, book, x, y):
             later = {(GATE, state[0], other): most for other in onward[label]}
             if is_last(book, y, state):
                 later[END] = most
-            room[(STATE, *state)] = later
+            point = (STATE, *state)
+            room[point] = later
     return room
 
 

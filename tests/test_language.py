@@ -175,6 +175,10 @@ class Language(unittest.TestCase):
                 self.assertNotIn("%", node.value, at)
         self.assertEqual([at for at, _ in self.nodes(ast.GeneratorExp, ast.Lambda, ast.Global, ast.NamedExpr)], [])
 
+    def test_no_star_in_an_index(self):
+        for at, node in self.nodes(ast.Subscript):
+            self.assertFalse([part for part in ast.walk(node.slice) if isinstance(part, ast.Starred)], at)
+
     def test_decorators_and_parameters(self):
         for at, node in self.nodes(ast.FunctionDef, ast.ClassDef):
             names = [ast.unparse(decorator) for decorator in node.decorator_list]
