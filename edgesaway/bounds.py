@@ -1,13 +1,12 @@
 """Bounds of plans: how much a plan touches at most, reckoned from statistics alone."""
 
-from edgesaway.books import book_of
+from edgesaway.books import book_of, labels_of
 from edgesaway.schemas import nodes_of
 
 
 def bound_of(schema, stats, indexes, question, plan):
     """The bound of a plan that fits."""
-    nodes = tuple([len(nodes_of(schema, kind)) for kind in question[1]])
-    return PlanBound(schema, stats, indexes).bound_behind(question[2], plan, nodes)[0]
+    return PlanBound(schema, stats, indexes).bound_behind(question[2], plan, first_bound(schema, question))[0]
 
 
 class PlanBound:
@@ -21,7 +20,7 @@ class PlanBound:
     def bound_behind(self, body, plan, nodes):
         """The pair of the bound of a plan for a body, and of the bound on nodes behind a body that holds."""
         if body[0] == "way":
-            return self._way_bound(body, plan, nodes), self._behind_way(body, nodes)
+            return self.way_bound(body, plan, nodes), self.behind_way(body, nodes)
         if body[0] == "not":
             return self.bound_behind(body[1], plan[1], nodes)[0], nodes
         return self._behind_all(body, plan, nodes) if body[0] == "and" else self._behind_some(body, plan, nodes)
@@ -37,10 +36,9 @@ class PlanBound:
     def _behind_some(self, body, plan, nodes):
         """What `bound_behind` tells of an "or": all parts have the same bound on nodes."""
         told = [self.bound_behind(part, other, nodes) for part, other in zip(body[1], plan[2])]
-        behind = [min(most, sum([later[at] for _, later in told])) for at, most in enumerate(nodes)]
-        return sum([bound for bound, _ in told]), tuple(behind)
+        return sum([bound for bound, _ in told]), behind_some(nodes, [later for _, later in told])
 
-    def _way_bound(self, way, plan, nodes):
+    def way_bound(self, way, plan, nodes):
         """The bound of a plan for a way."""
         word = plan[0]
         if word == "forward":
@@ -54,9 +52,9 @@ class PlanBound:
 
     def _edges(self, expression):
         """The number of the edges of the labels of an expression."""
-        return sum([self._rows[label][0] for label, _ in book_of(self._schema, expression)[2]])
+        return sum([self._rows[label][0] for label in labels_of(expression)])
 
-    def _behind_way(self, way, nodes):
+    def behind_way(self, way, nodes):
         """The bound on nodes behind a way that holds."""
         _, empty, letters, firsts, _, lasts = book_of(self._schema, way[1])
         if empty == 1:
@@ -70,6 +68,16 @@ class PlanBound:
 def node_bound(end, nodes):
     """The bound for an end of a way."""
     return nodes[end[1]] if end[0] == "unknown" else 1
+
+
+def behind_some(nodes, behind):
+    """The bound on nodes behind an "or" that holds, by the bounds behind its parts."""
+    return tuple([min(most, sum([later[at] for later in behind])) for at, most in enumerate(nodes)])
+
+
+def first_bound(schema, question):
+    """The bound on nodes at first: for each unknown the number of the nodes of its kind."""
+    return tuple([len(nodes_of(schema, kind)) for kind in question[1]])
 
 
 def lowered(nodes, end, most):

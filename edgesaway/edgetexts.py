@@ -20,7 +20,7 @@ def whole_edges(reader):
         label = reader.take_label()
         edge = (source, label, reader.take_node())
         reader.take(";")
-        if reader.schema is not None and not is_edge(reader.schema, edge):
+        if reader.read_for is not None and not is_edge(reader.read_for, edge):
             raise BadEdge(edge)
         edges.append(edge)
     reader.finish()

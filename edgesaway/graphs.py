@@ -1,7 +1,9 @@
 """Graphs, and the changes that lead from one graph to another one."""
 
-from edgesaway.errors import BadEdge, Firm, Gone, Held, There
+from edgesaway.errors import BadEdge, Firm, Gone, Held, There, TooLarge
 from edgesaway.schemas import is_edge, is_firm, is_single, label_name, label_price
+
+MOST_EDGES = 100
 
 
 def is_graph(schema, graph):
@@ -74,6 +76,12 @@ def changed(schema, graph, changes):
         check_done(schema, graph, change)
         graph = with_change(graph, change)
     return graph
+
+
+def check_many(graph):
+    """Raise an error if a graph has more edges than a base can keep."""
+    if len(graph) > MOST_EDGES:
+        raise TooLarge("graph")
 
 
 def price_of(schema, changes):

@@ -47,7 +47,12 @@ def check_question(schema, question):
         raise TooLarge("question")
     for way in ways:
         check_size(way[1])
-    check_once(schema, [label for way in ways for label in labels_of(way[1])])
+    check_once(schema, labels_asked(question))
+
+
+def labels_asked(question):
+    """The list of the labels of a question, from left to right."""
+    return [label for way in ways_of(question) for label in labels_of(way[1])]
 
 
 def rows_of(schema, question):

@@ -89,7 +89,7 @@ def take_end(reader, unknowns):
     if not reader.skip("$"):
         return ("node", reader.take_node())
     number = reader.take_number()
-    if reader.schema is not None and number >= len(unknowns):
+    if reader.read_for is not None and number >= len(unknowns):
         raise BadNumber(number)
     return ("unknown", number)
 

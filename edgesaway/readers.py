@@ -13,7 +13,7 @@ class Reader:
     """
 
     def __init__(self, schema, text):
-        self.schema = schema
+        self.read_for = schema
         self.tokens = tokens_of(text)
         self.at = 0
 
@@ -64,19 +64,19 @@ class Reader:
     def take_kind(self):
         """Go on by the name of a kind, and tell its number."""
         name = self.take_name()
-        return 0 if self.schema is None else number_named(self.schema[1], name)
+        return 0 if self.read_for is None else number_named(self.read_for[1], name)
 
     def take_label(self):
         """Go on by the name of a label, and tell its number."""
         name = self.take_name()
-        return 0 if self.schema is None else number_named(self.schema[2], name)
+        return 0 if self.read_for is None else number_named(self.read_for[2], name)
 
     def take_letter(self):
         """Go on by the name of a label, perhaps with a sign for walking back ahead of it, and tell its letter."""
         back = 1 if self.skip("<") else 0
         name = self.token()
         label = self.take_label()
-        if self.schema is not None and back == 1 and is_mark(self.schema, label):
+        if self.read_for is not None and back == 1 and is_mark(self.read_for, label):
             raise BadRule(name)
         return (label, back)
 
@@ -85,11 +85,11 @@ class Reader:
         kind = self.take_kind()
         self.take("#")
         number = self.take_number()
-        if self.schema is None:
+        if self.read_for is None:
             return 0
-        if number >= self.schema[1][kind][1]:
+        if number >= self.read_for[1][kind][1]:
             raise BadNumber(number)
-        return first_node(self.schema, kind) + number
+        return first_node(self.read_for, kind) + number
 
     def finish(self):
         """Raise an error if something is left."""

@@ -214,3 +214,8 @@ def raised(kind, call, *things):
         assert error.__class__ is kind, error.__class__
         return error
     raise AssertionError(f"{kind.__name__} was not raised")
+
+
+def price_of_changes(schema, changes):
+    """The sum of the prices of changes [6]."""
+    return sum(schema[2][label][3] for _, _, label, _ in changes)

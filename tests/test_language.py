@@ -284,9 +284,46 @@ class Language(unittest.TestCase):
                         else:
                             self.assertIsInstance(node, ast.Compare, at)
 
+    def test_properties_methods_and_attributes(self):
+        """A property and a class method share their names with nothing else; a class has each name once."""
+        properties, methods, off_class, attributes = set(), set(), set(), set()
+        for at, node in self.nodes(ast.ClassDef):
+            own = [part for part in node.body if isinstance(part, ast.FunctionDef)]
+            self.assertEqual(len(own), len({part.name for part in own}), at)
+            stored = {
+                part.attr for part in ast.walk(node) if isinstance(part, ast.Attribute)
+                and isinstance(part.ctx, ast.Store)
+            }
+            self.assertFalse(stored & {part.name for part in own}, at)
+            attributes |= stored
+            for part in own:
+                words = [ast.unparse(decorator) for decorator in part.decorator_list]
+                (properties if words == ["property"] else off_class if words else methods).add(part.name)
+        self.assertFalse(properties & (methods | off_class | attributes | METHODS))
+        self.assertFalse(off_class & (methods | attributes | METHODS))
+        for at, node in self.nodes(ast.Attribute):
+            if isinstance(node.ctx, ast.Store):
+                self.assertNotIn(node.attr, properties | methods | off_class, at)
+
+    def test_generators(self):
+        """The name of a generator is that of nothing else."""
+        defined = [node for _, node in self.nodes(ast.FunctionDef)]
+        names = [node.name for node in defined]
+        for node in defined:
+            if any(isinstance(part, (ast.Yield, ast.YieldFrom)) for part in ast.walk(node)):
+                self.assertEqual(names.count(node.name), 1, node.name)
+                self.assertNotIn(node.name, METHODS)
+
+    def test_ends_of_with_blocks(self):
+        for at, node in self.nodes(ast.FunctionDef):
+            if node.name == "__exit__":
+                for row in node.body:
+                    self.assertIsInstance(row, ast.Assign, at)
+                    self.assertIsInstance(row.value, ast.Constant, at)
+
     def test_docstrings(self):
         for at, node in self.nodes(ast.Module, ast.FunctionDef, ast.ClassDef):
-            if getattr(node, "name", "") != "__init__":
+            if getattr(node, "name", "") not in ("__init__", "__exit__"):
                 self.assertTrue(ast.get_docstring(node), at)
 
 
