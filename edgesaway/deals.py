@@ -1,7 +1,6 @@
 """Deals: several steps at a graph that are let at the head if all of them would be told the same there."""
 
-from edgesaway.errors import Ended, Otherwise
-from edgesaway.graphs import check_many
+from edgesaway.errors import Ended
 from edgesaway.steps import Steps, WholeEyes
 
 
@@ -57,12 +56,7 @@ class Deal:
         """End the deal, and tell the graph behind all of its steps at the head, if they are let there."""
         self._check_open()
         self._ended = True
-        graph, anew, number = self._run.at_head(self._base.graph, self._base.meters)
-        self._base.count_anew(anew)
-        if number is not None:
-            raise Otherwise(number)
-        check_many(graph)
-        return graph
+        return self._run.let_at(self._base, self._base)
 
     def drop(self):
         """End the deal; nothing is left behind."""

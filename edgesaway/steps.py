@@ -1,7 +1,8 @@
 """The steps of a deal: what each one told, and how they are gone through once more at a later head."""
 
 from edgesaway.answers import distance_of
-from edgesaway.graphs import outcome, with_change
+from edgesaway.errors import Otherwise
+from edgesaway.graphs import check_many, outcome, with_change
 from edgesaway.questions import labels_asked
 from edgesaway.standings import standing_of
 from edgesaway.truths import table_of, truth_of
@@ -56,7 +57,19 @@ class Steps:
             self.seen = with_change(self.seen, change)
         return word
 
-    def at_head(self, graph, meters):
+    def let_at(self, base, counter):
+        """The graph behind all steps at the head of a base, if they are let there.
+
+        The counter, the base itself or a window over it, counts the steps that are asked anew.
+        """
+        graph, anew, number = self._gone_through(base.graph, base.meters)
+        counter.count_anew(anew)
+        if number is not None:
+            raise Otherwise(number)
+        check_many(graph)
+        return graph
+
+    def _gone_through(self, graph, meters):
         """Go through all steps at a head.
 
         A triple: the graph behind them, how many of them were asked anew, and the number of the first one that is

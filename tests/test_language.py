@@ -179,6 +179,15 @@ class Language(unittest.TestCase):
         for at, node in self.nodes(ast.Subscript):
             self.assertFalse([part for part in ast.walk(node.slice) if isinstance(part, ast.Starred)], at)
 
+    def test_calls_with_stars(self):
+        """Behind a star of a call, and beside it, stand only names, attributes and literals."""
+        for at, node in self.nodes(ast.Call):
+            stars = [number for number, part in enumerate(node.args) if isinstance(part, ast.Starred)]
+            if stars:
+                for part in [*node.args[stars[0]:], *[word.value for word in node.keywords]]:
+                    inner = part.value if isinstance(part, ast.Starred) else part
+                    self.assertIsInstance(inner, (ast.Name, ast.Attribute, ast.Constant, ast.List, ast.Tuple), at)
+
     def test_decorators_and_parameters(self):
         for at, node in self.nodes(ast.FunctionDef, ast.ClassDef):
             names = [ast.unparse(decorator) for decorator in node.decorator_list]
@@ -229,6 +238,16 @@ class Language(unittest.TestCase):
             if isinstance(node, ast.Call) and isinstance(node.func, ast.Name)
             and node.func.id in [part.arg for part in function.args.args]
         }
+        # A function of a table is called by a name that it was given.
+        for _, function in self.nodes(ast.FunctionDef):
+            given = {
+                node.targets[0].id for node in ast.walk(function) if isinstance(node, ast.Assign)
+                and isinstance(node.value, ast.Subscript) and isinstance(node.value.value, ast.Name)
+                and node.value.value.id.isupper()
+            }
+            for node in ast.walk(function):
+                if isinstance(node, ast.Call) and isinstance(node.func, ast.Name) and node.func.id in given:
+                    passed.add(node.func)
         for at, node in self.nodes(ast.Call):
             if isinstance(node.func, ast.Attribute):
                 self.assertIn(node.func.attr, METHODS | own_methods, at)
